@@ -237,3 +237,24 @@ def all_squares(n):
 
     go([])
     return found
+
+
+def switched_often(rows, rng, steps=60):
+    """A square that comes of another one by many exchanges and turns, chosen by `rng`."""
+    n = len(rows)
+    rows = [list(row) for row in rows]
+    for _ in range(steps if n > 1 else 0):
+        one, other = rng.sample(range(n), 2)
+        column = rng.randrange(n)
+        while column is not None:
+            rows[one][column], rows[other][column] = rows[other][column], rows[one][column]
+            twice = [c for c in range(n) if c != column and rows[one][c] == rows[one][column]]
+            column = twice[0] if twice else None
+        places = rng.sample(range(3), 3)
+        turned = [[0] * n for _ in range(n)]
+        for r in range(n):
+            for c in range(n):
+                cell = (r, c, rows[r][c])
+                turned[cell[places[0]]][cell[places[1]]] = cell[places[2]]
+        rows = turned
+    return tuple(tuple(row) for row in rows)

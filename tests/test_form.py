@@ -23,6 +23,11 @@ METHODS = set(
     "rjust rpartition rsplit rstrip setdefault split splitlines startswith strip update upper "
     "values zfill bit_length isascii add discard sort".split())
 BARRED = set("register mro elements open input law exit eval exec compile globals locals vars".split())
+NOWHERE = set(
+    "register mro elements open input law version_info with_traceback add_note format format_map".split())
+WORDS = set(
+    "type typing typing_extensions enum Enum IntEnum StrEnum Flag IntFlag Generic Protocol ABC ABCMeta "
+    "namedtuple NamedTuple TypedDict TYPE_CHECKING abstractmethod dataclass overload contextmanager".split())
 STATEMENTS = (
     ast.AsyncFunctionDef, ast.Global, ast.Set, ast.Await, ast.YieldFrom, ast.Import, ast.Div)
 
@@ -106,6 +111,33 @@ class FormTest(unittest.TestCase):
                         self.assertFalse(hasattr(builtins, bound), (path.name, node.name, bound))
                 if isinstance(node, ast.Name) and hasattr(builtins, node.id):
                     self.assertIn(node.id, BUILTINS, path.name)
+
+    def test_words_that_are_used_nowhere(self):
+        for name, node in self.nodes(ast.AST):
+            for field in ("id", "attr", "arg", "name"):
+                word = getattr(node, field, None)
+                self.assertNotIn(word, NOWHERE | WORDS, name)
+                self.assertFalse(isinstance(word, str) and word.startswith("__") and word != "__init__")
+            if isinstance(node, ast.Constant) and isinstance(node.value, str):
+                self.assertNotIn(chr(37), node.value)
+
+    def test_methods_and_attributes_are_apart(self):
+        methods = {own.name for _, node in self.nodes(ast.ClassDef) for own in node.body
+                   if isinstance(own, ast.FunctionDef)}
+        for name, node in self.nodes(ast.Attribute):
+            if isinstance(node.ctx, ast.Store):
+                self.assertNotIn(node.attr, methods, name)
+                self.assertNotIn(node.attr, METHODS, name)
+
+    def test_no_import_goes_in_a_circle(self):
+        imports = {}
+        for name, node in self.nodes(ast.ImportFrom):
+            imports.setdefault(name[:-3], set()).add(node.module.split(".")[-1])
+        done = set()
+        while len(done) < len(imports):
+            free = {name for name in imports if not imports[name] & set(imports) - done} - done
+            self.assertTrue(free, imports)
+            done |= free
 
     def test_methods(self):
         own = {node.name for _, node in self.nodes(ast.FunctionDef)}
