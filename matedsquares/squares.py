@@ -112,11 +112,15 @@ class ListedSquare:
 
     Each class of squares has its order, and a method that returns the part of a cell at one of
     the places ROW, COLUMN and SIGN from those at the two others; what the cell that is handed in
-    has at the place itself does not matter."""
+    has at the place itself does not matter. A square is grouped if it is known that its cells are
+    told by a sum: that numbers can be given to its rows, columns and signs, for each of the three
+    in some order, so that those of a row and a column are added to that of the sign, in a group in
+    which the order of adding does not matter."""
 
     def __init__(self, rows):
         self.rows = rows
         self.order = len(rows)
+        self.grouped = False
 
     def part_at(self, place, cell):
         row, column, own = cell
@@ -132,15 +136,17 @@ class SumSquare:
 
     def __init__(self, size, a, b):
         self.order = size
+        self.grouped = True
         # The sum of the parts of a cell, each taken as often as told here, leaves 0.
         self.weights = (a, b, -1)
+        self.backs = [inverse_modulo(weight, size) for weight in self.weights]
 
     def part_at(self, place, cell):
         total = 0
         for other in range(3):
             if other != place:
                 total += self.weights[other] * cell[other]
-        return -total * inverse_modulo(self.weights[place], self.order) % self.order
+        return -total * self.backs[place] % self.order
 
 
 class FieldSquare:
@@ -148,13 +154,15 @@ class FieldSquare:
 
     def __init__(self, field, factor):
         self.order = field.size
+        self.grouped = True
         self.field = field
         self.factor = factor
+        self.back = field.inverse(factor)
 
     def part_at(self, place, cell):
         row, column, own = cell
         if place == COLUMN:
-            return self.field.product(self.field.less(own, row), self.field.inverse(self.factor))
+            return self.field.product(self.field.less(own, row), self.back)
         step = self.field.product(self.factor, column)
         if place == SIGN:
             return self.field.added(row, step)
@@ -166,6 +174,7 @@ class ProductSquare:
 
     def __init__(self, first, second):
         self.order = first.order * second.order
+        self.grouped = first.grouped and second.grouped
         self.first = first
         self.second = second
 
@@ -181,6 +190,7 @@ class TurnedSquare:
 
     def __init__(self, base, places):
         self.order = base.order
+        self.grouped = base.grouped
         self.base = base
         self.places = places
 
