@@ -111,18 +111,23 @@ def rings_of(square, one, other):
         raise InvalidQuestion("one row twice")
     columns = range(square.order)
     below = [square.part_at(SIGN, (other, column, 0)) for column in columns]
-    behind = [square.part_at(COLUMN, (one, 0, own)) for own in below]
-    passed = [False] * square.order
+    return cycles_of([square.part_at(COLUMN, (one, 0, own)) for own in below])
+
+
+def cycles_of(behind):
+    """Return the cycles that come of a list that tells for each integer the one behind it, each
+    cycle from its least one on, by these ascending."""
+    passed = [False] * len(behind)
     found = []
-    for start in columns:
-        ring = []
-        column = start
-        while not passed[column]:
-            passed[column] = True
-            ring.append(column)
-            column = behind[column]
-        if ring:
-            found.append(ring)
+    for start in range(len(behind)):
+        cycle = []
+        at = start
+        while not passed[at]:
+            passed[at] = True
+            cycle.append(at)
+            at = behind[at]
+        if cycle:
+            found.append(cycle)
     return found
 
 
